@@ -1,0 +1,1 @@
+"""Glidenames: names on a map through all its scales."""
