@@ -4,6 +4,8 @@ Each of them takes anything at all, so a part is looked at only behind the
 question what it is.
 """
 
+from glidenames.errors import NoPlace
+
 
 def is_number(thing):
     """Whether thing is a number; True and False are none."""
@@ -18,3 +20,26 @@ def is_from(thing, low):
 def is_tuple_of(thing, many):
     """Whether thing is a tuple of so many parts."""
     return isinstance(thing, tuple) and len(thing) == many
+
+
+def is_numbers(thing, many):
+    """Whether thing is a tuple of so many numbers."""
+    return is_tuple_of(thing, many) and all([is_number(part) for part in thing])
+
+
+def as_tuples(value):
+    """value with a tuple for each list, at any depth."""
+    if isinstance(value, (list, tuple)):
+        return tuple([as_tuples(part) for part in value])
+    return value
+
+
+def is_place(thing, many):
+    """Whether thing is the number of one of so many, counted from 0."""
+    return is_from(thing, 0) and thing < many
+
+
+def check_place(place, many):
+    """Raises NoPlace unless place is the number of one of so many, counted from 0."""
+    if not is_place(place, many):
+        raise NoPlace(place)

@@ -39,6 +39,21 @@ NUMBERS = (0, 1, -1, 2, 100, 10 ** 6, 10 ** 12, -10 ** 12, 10 ** 400, -10 ** 400
 THINGS = NO_NUMBERS + NUMBERS
 
 
+# The forms in which values are handed in.
+FORMS = (lambda value: value, as_lists, mixed)
+
+
+def put(values, place, part):
+    """values, a tuple, with this part at this place."""
+    return values[:place] + (part,) + values[place + 1:]
+
+
+def unlike(things, values):
+    """Those of things that are written unlike each of values: (True, 1) equals (1, 1)."""
+    written = [repr(value) for value in values]
+    return [thing for thing in things if repr(thing) not in written]
+
+
 class Calls(unittest.TestCase):
     """Calls in all the ways in which a function may be called."""
 
@@ -51,7 +66,7 @@ class Calls(unittest.TestCase):
         at whether what was handed in is as it was."""
         names = list(inspect.signature(function).parameters)
         self.assertEqual(len(names), len(values))
-        for form in (lambda value: value, as_lists, mixed):
+        for form in FORMS:
             handed = [form(value) for value in values]
             before = repr(handed)
             yield lambda: function(*handed)
@@ -72,12 +87,18 @@ class Calls(unittest.TestCase):
             self.assertIs(caught.exception.__class__, error)
             self.same(vars(caught.exception), kept)
 
-    def judged(self, function, yes, no):
-        """Fails unless function, of a thing, returns True of each of yes, False of each of no."""
-        for expected, things in ((True, yes), (False, no)):
-            for thing in things:
-                before = repr(thing)
-                with self.subTest(thing=before[:200]):
-                    self.assertIs(function(thing), expected)
-                    self.assertIs(function(thing=thing), expected)
-                    self.assertEqual(repr(thing), before)
+    def judged(self, function, yes, no, *others):
+        """Fails unless function, of the others and a thing, returns True of each of yes, False of
+        each of no. The others are handed in in each form, the thing as it is."""
+        names = list(inspect.signature(function).parameters)
+        self.assertEqual(names[-1], "thing")
+        self.assertEqual(len(names), len(others) + 1)
+        for form in FORMS[:3 if others else 1]:
+            handed = [form(value) for value in others]
+            for expected, things in ((True, yes), (False, no)):
+                for thing in things:
+                    before = repr((handed, thing))
+                    with self.subTest(others=handed, thing=repr(thing)[:200]):
+                        self.assertIs(function(*handed, thing), expected)
+                        self.assertIs(function(**dict(zip(names, [*handed, thing]))), expected)
+                        self.assertEqual(repr((handed, thing)), before)

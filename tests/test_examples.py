@@ -11,7 +11,7 @@ import unittest
 from glidenames import errors
 
 EXAMPLES = pathlib.Path(__file__).parent / "examples"
-MODULES = ("fractions", "styles")
+MODULES = ("fractions", "styles", "pages", "maps", "sides", "chains")
 
 
 def parted(text):

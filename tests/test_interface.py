@@ -12,6 +12,25 @@ INTERFACE = {
     "styles": "is_style(thing), is_styles(thing), width_of(style, line), ladder(style, text), "
               "lines_of(style, text), size_of(style, text), tethers_of(style, size, area), "
               "name_of(style, text, area), ranking_of(styles, classes)",
+    "pages": "is_way(thing), is_area(thing), is_feature(thing), is_page(thing), way_length(way), "
+             "spot_at(way, far), piece_of(way, first, last), turned_back(way), plain_way(way), "
+             "nearest_on(way, spot), inside(way, area), tie_of(feature), page_frame(page), "
+             "page_cut(page, area), pages_joined(page, other), page_moved(page, across, down), "
+             "page_spread(page, many)",
+    "maps": "is_tether(thing), is_name(thing), is_map(thing), map_of(page, styles), part_of(chart, lot), "
+            "joined(chart, other), turned(chart), sides_turned(sides), place_turned(chart, name, place), "
+            "map_moved(chart, across, down), spread(chart, many), sized(chart, many), "
+            "stretch_at(chart, name, axis, scale), lets(chart, name, scale, place), "
+            "box_at(chart, name, place), do_cover(chart, name, place, other, there)",
+    "sides": "is_sides(chart, thing), ahead(chart, axis, one, other), order_of(chart, axis), "
+             "side_of(sides, one, other), stands_left(chart, sides, one, other), "
+             "stands_above(chart, sides, one, other), bans(sides), pair_number(chart, axis, one, other), "
+             "by_rule(chart), all_beside(chart), with_side(sides, one, other, side), "
+             "part_sides(sides, lot), is_row(sides, axis, lot), in_row(chart, sides, axis, lot)",
+    "chains": "is_chain(chart, sides, thing), length_of(chart, chain), need_of(chart, chain), "
+              "way_of(chart, chain), number_of(chart, chain), longest(chart, sides, lot, axis), "
+              "chain_between(chart, sides, lot, axis, one, other), greatest_chain(chart, sides, lot), "
+              "through(chart, sides, lot, name)",
 }
 
 

@@ -25,6 +25,16 @@ NO_NAMES = """
     importlib license locals methodcaller os quit setattr super type vars sys
 """.split() + dir(builtins)
 
+METHODS = """
+    append clear copy count endswith extend find get index insert isalnum isalpha isdigit islower isspace
+    isupper items join keys ljust lower lstrip partition pop remove replace reverse rfind rjust rpartition
+    rsplit rstrip setdefault split splitlines startswith strip update upper values zfill bit_length
+""".split()
+NO_WORDS = """
+    type typing typing_extensions enum Enum IntEnum StrEnum Flag IntFlag Generic Protocol ABC ABCMeta
+    namedtuple NamedTuple TypedDict TYPE_CHECKING abstractmethod
+""".split()
+
 
 def tree(file):
     return ast.parse(file.read_text(encoding="utf-8"))
@@ -119,3 +129,12 @@ class TestLanguage(unittest.TestCase):
                         self.assertEqual(node.decorator_list, [])
                     if isinstance(node, ast.FunctionDef):
                         self.assertEqual([name for name in inner_names(node) if name in NO_NAMES + taken], [])
+
+    def test_methods_and_words(self):
+        for file in FILES:
+            for node in ast.walk(tree(file)):
+                with self.subTest(file=file.name, line=getattr(node, "lineno", 0)):
+                    if isinstance(node, ast.Call) and isinstance(node.func, ast.Attribute):
+                        self.assertIn(node.func.attr, METHODS)
+                    if isinstance(node, ast.Name):
+                        self.assertNotIn(node.id, NO_WORDS)

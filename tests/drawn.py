@@ -1,0 +1,84 @@
+"""Values drawn for the tests: small numbers, so that equal ones and ends meet often; and the MAPS
+and SIDES of the examples."""
+
+# Three NAMES of width 4, each 2 off its place at the most, side by side.
+STILL = (0, 0, 0, 0)
+ROW = ((4, 1, (0, 2, 0, 2), STILL), (4, 1, (3, 2, 3, 2), STILL), (4, 1, (6, 2, 6, 2), STILL))
+BESIDE = ((), (0,), (0, 0))
+# Four NAMES and the SIDES that they have by rule, with a BAN.
+TOWN = (
+    (6, 2, (0, 0, 10, 0), (0, 0, 4, 0)), (4, 2, (9, 0, 9, 0), (2, 0, 2, 0)),
+    (4, 2, (3, 1, 3, 1), (1, 1, 1, 1)), (4, 2, (3, 0, 3, 0), (1, 0, 1, 0)),
+)
+RULE = ((), (0,), (1, 0), (0, 0, 2))
+
+TEXTS = ("Ford", "Old Road", "a", "~", "upper mill on sea", "i" * 60, "m m m m", "x-1 (2)")
+HOLDS = ("middle", "free", "left", "right", "over", "under")
+
+
+def drawn_way(picked, corners):
+    """A WAY of so many corners that goes on, turns and turns back."""
+    way = [(picked.randrange(-6, 7), picked.randrange(-6, 7))]
+    while len(way) < corners:
+        x, y = way[-1]
+        far = picked.choice((-7, -3, -2, -1, 1, 2, 3, 6))
+        way.append(picked.choice(((x + far, y), (x, y + far))))
+    return tuple(way)
+
+
+def drawn_area(picked):
+    """An AREA, now and then of one SPOT or one row."""
+    west, north = picked.randrange(-8, 8), picked.randrange(-8, 8)
+    return (west, north, west + picked.choice((0, 0, 1, 4, 9)), north + picked.choice((0, 0, 1, 4, 9)))
+
+
+def drawn_feature(picked, classes):
+    """A FEATURE of one of so many CLASSES."""
+    kind = picked.randrange(3)
+    where = (picked.randrange(-9, 10), picked.randrange(-9, 10))
+    if kind == 1:
+        way = drawn_way(picked, picked.randrange(2, 7))
+        length = sum([abs(x - u) + abs(y - v) for (x, y), (u, v) in zip(way, way[1:])])
+        where = (way, *sorted(picked.choices(range(length + 1), k=2)))
+    if kind == 2:
+        where = drawn_area(picked)
+    return (picked.randrange(classes), picked.choice(TEXTS), kind, where)
+
+
+def drawn_page(picked, many, classes=3):
+    """A PAGE of so many FEATURES."""
+    return tuple([drawn_feature(picked, classes) for _ in range(many)])
+
+
+def drawn_styles(picked, many=3):
+    """STYLES, so many."""
+    return tuple([
+        (picked.randrange(1, 5), picked.choice(((), (("i", 1), ("m", 6)))), picked.randrange(3),
+         picked.randrange(1, 9), picked.randrange(3), picked.choice((1, 20, 60)), picked.choice(HOLDS),
+         picked.randrange(5), picked.randrange(-5, 6))
+        for _ in range(many)
+    ])
+
+
+def drawn_tether(picked):
+    """A TETHER, often without a stretch or with nothing to spare."""
+    low, before = picked.randrange(-4, 7), picked.randrange(-3, 4)
+    return (low, before, low + picked.choice((0, 0, 0, 1, 2, 5)), picked.choice((0, 0, 1, 2, 4)) - before)
+
+
+def drawn_map(picked, many):
+    """A MAP of so many NAMES."""
+    return tuple([
+        (picked.randrange(1, 7), picked.randrange(1, 4), drawn_tether(picked), drawn_tether(picked))
+        for _ in range(many)
+    ])
+
+
+def drawn_sides(picked, many, told=(0, 0, 0, 1, 1, 1, 2)):
+    """SIDES of so many NAMES."""
+    return tuple([tuple(picked.choices(told, k=name)) for name in range(many)])
+
+
+def drawn_lot(picked, many):
+    """A LOT of so many NAMES that there are."""
+    return tuple([name for name in range(many) if picked.randrange(4) > 0])
