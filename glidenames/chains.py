@@ -2,7 +2,8 @@
 
 from glidenames.errors import CanNot
 from glidenames.needs import is_under, need_between, number_between, way_between
-from glidenames.sides import order_of, stands_before
+from glidenames.pushing import held_back, pushed_on, pushers_of, sizes_by
+from glidenames.sides import stands_before
 from glidenames.values import check_place, is_place, is_tuple_of
 
 
@@ -16,6 +17,11 @@ def is_chain(chart, sides, thing):
     if not all([is_place(name, len(chart)) for name in names]):
         return False
     return all([stands_before(chart, sides, axis, one, other) for one, other in zip(names, names[1:])])
+
+
+def is_chain_of(chart, sides, lot, thing):
+    """Whether thing is a CHAIN of lot."""
+    return is_chain(chart, sides, thing) and all([name in lot for name in thing[1]])
 
 
 def length_of(chart, chain):
@@ -42,28 +48,62 @@ def number_of(chart, chain):
     return number_between(chart, axis, names[0], names[-1], length_of(chart, chain))
 
 
-def longest_from(chart, sides, lot, axis, start):
-    """For each NAME to which CHAINS of lot lead from start: the length and the NAMES of a longest one."""
-    found = {start: (0, (start,))}
-    # Whoever stands before a NAME goes ahead of it, so all CHAINS to it are known by its turn.
-    for own in [name for name in order_of(chart, axis) if name in lot]:
-        tries = [
-            (length + chart[last][axis], names + (own,))
-            for last, (length, names) in found.items()
-            if stands_before(chart, sides, axis, last, own)
-        ]
-        if len(tries) > 0:
-            found[own] = max(tries)
-    return found
+def lengths_from(chart, sides, lot, axis, name):
+    """The lengths of longest CHAINS of lot from name to each NAME to which some lead."""
+    return pushed_on(pushers_of(chart, sides, lot, axis), sizes_by(chart, axis, 1), {name: 0})
+
+
+def lengths_to(chart, sides, lot, axis, name):
+    """The lengths of longest CHAINS of lot to name from each NAME from which some lead."""
+    places = held_back(pushers_of(chart, sides, lot, axis), sizes_by(chart, axis, 1), {name: 0})
+    return {one: 0 - places[one] for one in places}
+
+
+def all_lengths(chart, sides, lot, axis):
+    """For each NAME of lot, in order, the lengths of longest CHAINS of lot from it."""
+    pairs = pushers_of(chart, sides, lot, axis)
+    sizes = sizes_by(chart, axis, 1)
+    return [pushed_on(pairs, sizes, {name: 0}) for name in lot]
+
+
+def all_ends(chart, sides, lot, axis):
+    """Quadruples of axis, a first NAME, a last one and the length of a longest CHAIN of lot between."""
+    return [
+        (axis, first, last, length)
+        for first, lengths in zip(lot, all_lengths(chart, sides, lot, axis))
+        for last, length in lengths.items()
+    ]
+
+
+def ends_through(chart, sides, lot, axis, name):
+    """The same, of the CHAINS that have name."""
+    ahead_of = lengths_to(chart, sides, lot, axis, name)
+    behind = lengths_from(chart, sides, lot, axis, name)
+    return [(axis, first, last, ahead_of[first] + behind[last]) for first in ahead_of for last in behind]
 
 
 def longest(chart, sides, lot, axis):
     """The greatest lengths of CHAINS from each NAME of lot to each."""
-    table = []
-    for start in lot:
-        found = longest_from(chart, sides, lot, axis, start)
-        table.append(tuple([found[stop][0] if stop in found else None for stop in lot]))
-    return tuple(table)
+    return tuple([
+        tuple([lengths.get(stop, None) for stop in lot])
+        for lengths in all_lengths(chart, sides, lot, axis)
+    ])
+
+
+def names_between(chart, sides, lot, axis, one, other):
+    """The NAMES of a longest CHAIN of lot from one to other; CanNot() if there is none."""
+    pairs = pushers_of(chart, sides, lot, axis)
+    sizes = sizes_by(chart, axis, 1)
+    lengths = pushed_on(pairs, sizes, {one: 0})
+    if other not in lengths:
+        raise CanNot()
+    names = [other]
+    for name, before in reversed(pairs):
+        if name == names[-1] and name != one:
+            names.append([
+                own for own in before if own in lengths and lengths[own] + sizes[own] == lengths[name]
+            ][0])
+    return tuple(names[::-1])
 
 
 def chain_between(chart, sides, lot, axis, one, other):
@@ -72,18 +112,23 @@ def chain_between(chart, sides, lot, axis, one, other):
     check_place(other, len(chart))
     if one not in lot:
         raise CanNot()
-    found = longest_from(chart, sides, lot, axis, one)
-    if other not in found:
-        raise CanNot()
-    return (axis, found[other][1])
+    return (axis, names_between(chart, sides, lot, axis, one, other))
 
 
-def with_greatest_number(chart, chains):
-    """The first of chains with the greatest NUMBER."""
-    best = chains[0]
-    for own in chains:
-        if is_under(number_of(chart, best), number_of(chart, own)):
-            best = own
+def chain_through(chart, sides, lot, axis, first, name, last):
+    """A longest CHAIN of lot from first through name to last."""
+    ahead_of = names_between(chart, sides, lot, axis, first, name)
+    return (axis, ahead_of[:-1] + names_between(chart, sides, lot, axis, name, last))
+
+
+def ends_with_greatest_number(chart, ends):
+    """The first of ends, quadruples as above, with the greatest NUMBER."""
+    best = ends[0]
+    greatest = number_between(chart, *best)
+    for own in ends:
+        number = number_between(chart, *own)
+        if is_under(greatest, number):
+            best, greatest = own, number
     return best
 
 
@@ -92,12 +137,9 @@ def greatest_chain(chart, sides, lot):
     if len(lot) == 0:
         raise CanNot()
     # With the same ends no CHAIN has a greater NUMBER than a longest one.
-    chains = []
-    for axis in (0, 1):
-        for start in lot:
-            found = longest_from(chart, sides, lot, axis, start)
-            chains.extend([(axis, names) for length, names in found.values()])
-    return with_greatest_number(chart, chains)
+    ends = all_ends(chart, sides, lot, 0) + all_ends(chart, sides, lot, 1)
+    axis, first, last, _ = ends_with_greatest_number(chart, ends)
+    return (axis, names_between(chart, sides, lot, axis, first, last))
 
 
 def through(chart, sides, lot, name):
@@ -105,12 +147,6 @@ def through(chart, sides, lot, name):
     check_place(name, len(chart))
     if name not in lot:
         raise CanNot()
-    chains = []
-    for axis in (0, 1):
-        onward = longest_from(chart, sides, lot, axis, name)
-        for start in lot:
-            found = longest_from(chart, sides, lot, axis, start)
-            if name in found:
-                ahead_of = found[name][1][:-1]
-                chains.extend([(axis, ahead_of + names) for length, names in onward.values()])
-    return with_greatest_number(chart, chains)
+    ends = ends_through(chart, sides, lot, 0, name) + ends_through(chart, sides, lot, 1, name)
+    axis, first, last, _ = ends_with_greatest_number(chart, ends)
+    return chain_through(chart, sides, lot, axis, first, name, last)

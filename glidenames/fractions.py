@@ -82,6 +82,15 @@ def least(many):
     return tuple(best)
 
 
+def ascending(many):
+    """many in order, each number once."""
+    row = []
+    for own in many:
+        if tuple(own) not in row:
+            row.insert(len([low for low in row if is_less(low, own)]), tuple(own))
+    return tuple(row)
+
+
 def straight(low, high, scale, first, second):
     """What is told at scale on the straight way from first at low to second at high."""
     # With low as high there is no way to go: over raises CanNot() then, too.

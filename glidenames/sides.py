@@ -3,7 +3,7 @@
 from glidenames.errors import CanNot, Unfit
 from glidenames.maps import TETHERS
 from glidenames.needs import is_under, number_between
-from glidenames.values import as_tuples, check_place, is_place, is_tuple_of
+from glidenames.values import as_tuples, check_place, is_numbers, is_place, is_tuple_of
 
 # The SIDE of two NAMES that are never shown together; those below it are the two axes.
 BAN = 2
@@ -85,6 +85,14 @@ def bans(sides):
     return tuple([
         (one, other) for one in range(many) for other in range(one + 1, many) if sides[other][one] == BAN
     ])
+
+
+def is_ban(sides, thing):
+    """Whether thing is a BAN."""
+    if not is_numbers(thing, 2):
+        return False
+    one, other = thing
+    return is_place(one, other) and other < len(sides) and sides[other][one] == BAN
 
 
 def pair_number(chart, axis, one, other):

@@ -27,6 +27,17 @@ def is_numbers(thing, many):
     return is_tuple_of(thing, many) and all([is_number(part) for part in thing])
 
 
+def is_just(thing, value):
+    """Whether thing is value, made of tuples, numbers and None: a list is no tuple, True no number."""
+    if isinstance(value, tuple):
+        return is_tuple_of(thing, len(value)) and all([
+            is_just(part, own) for part, own in zip(thing, value)
+        ])
+    if value is None:
+        return thing is None
+    return is_number(thing) and thing == value
+
+
 def as_tuples(value):
     """value with a tuple for each list, at any depth."""
     if isinstance(value, (list, tuple)):

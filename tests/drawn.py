@@ -1,6 +1,8 @@
 """Values drawn for the tests: small numbers, so that equal ones and ends meet often; and the MAPS
 and SIDES of the examples."""
 
+import random
+
 # Three NAMES of width 4, each 2 off its place at the most, side by side.
 STILL = (0, 0, 0, 0)
 ROW = ((4, 1, (0, 2, 0, 2), STILL), (4, 1, (3, 2, 3, 2), STILL), (4, 1, (6, 2, 6, 2), STILL))
@@ -82,3 +84,36 @@ def drawn_sides(picked, many, told=(0, 0, 0, 1, 1, 1, 2)):
 def drawn_lot(picked, many):
     """A LOT of so many NAMES that there are."""
     return tuple([name for name in range(many) if picked.randrange(4) > 0])
+
+
+def some_maps(seed, many, most=5):
+    """Triples of a MAP, SIDES and a LOT."""
+    picked = random.Random(seed)
+    for _ in range(many):
+        names = picked.randrange(1, most + 1)
+        yield drawn_map(picked, names), drawn_sides(picked, names), drawn_lot(picked, names)
+
+
+def drawn_loose(picked, many):
+    """A MAP of so many NAMES that have much to spare, mostly in one row, and its SIDES."""
+    chart = []
+    for _ in range(many):
+        tethers = []
+        for _ in range(2):
+            low, before = picked.randrange(0, 5), picked.randrange(-4, 9)
+            tethers.append((low, before, low + picked.choice((0, 1, 3)), picked.randrange(4, 14) - min(before, 0)))
+        chart.append((picked.randrange(1, 7), picked.randrange(1, 4), *tethers))
+    return tuple(chart), drawn_sides(picked, many, picked.choice(((0,), (1,), (0, 0, 0, 1))))
+
+
+def some_loose(seed, many, most=5):
+    """Triples of a MAP with much to spare, SIDES and the LOT of all."""
+    picked = random.Random(seed)
+    for _ in range(many):
+        names = picked.randrange(1, most + 1)
+        yield *drawn_loose(picked, names), tuple(range(names))
+
+
+def drawn_row(picked, many):
+    """All of so many NAMES in some order: a RANKING."""
+    return tuple(picked.sample(range(many), many))

@@ -116,3 +116,81 @@ def is_standing(chart, sides, lot, scale, standing):
             if before(chart, sides, axis, one, other) and gap < 0:
                 return False
     return not any([sides[other][one] == 2 for one, other in itertools.combinations(lot, 2)])
+
+
+def greatest_places(chart, sides, lot, scale):
+    """The greatest x and y of each NAME of a LOT that can stand, moved back until nobody is held."""
+    places = {name: [ends_of(chart[name], axis, scale)[1] for axis in (0, 1)] for name in lot}
+    for _ in lot:
+        for one, other in itertools.permutations(lot, 2):
+            for axis in (0, 1):
+                if before(chart, sides, axis, one, other):
+                    places[one][axis] = min(places[one][axis], places[other][axis] - chart[one][axis])
+    return tuple([tuple([pair(place) for place in places[name]]) for name in lot])
+
+
+def numbers_about(numbers):
+    """Numbers above 0 at, just below, just above and between all of numbers, and beyond them."""
+    near = fractions.Fraction(1, 10 ** 6)
+    found = {fractions.Fraction(1, 10 ** 12), fractions.Fraction(1, 2), fractions.Fraction(7)}
+    row = sorted({fractions.Fraction(own) for own in numbers if own != EVER})
+    for own, behind in zip(row, row[1:] + [row[-1] + 2] if row else []):
+        found.update((own - near, own, own + near, (own + behind) / 2, behind))
+    return sorted([own for own in found if own > 0])
+
+
+def shown(numbers, scale):
+    """Of numbers by NAME, EVER for never: who has come at a number."""
+    return tuple(sorted([name for name in numbers if numbers[name] <= scale]))
+
+
+def all_comings(chart, sides):
+    """The COMINGS of all LOTS, by LOT."""
+    every = range(len(chart))
+    lots = [lot for many in range(len(chart) + 1) for lot in itertools.combinations(every, many)]
+    return {lot: coming(chart, sides, lot) for lot in lots}
+
+
+def turns(comings, numbers):
+    """All numbers at which anything can change, each but 0 with one right behind it, ascending."""
+    row = sorted({own for own in [0, *comings.values(), *numbers] if own != EVER})
+    found = []
+    for own, behind in zip(row, row[1:] + [row[-1] + 2]):
+        found.extend([own, (own + fractions.Fraction(behind)) / 2])
+    return found
+
+
+def stays(comings, numbers, name, start):
+    """Whether name can stand, from start on, at each SCALE with all that have come by then."""
+    for scale in turns(comings, numbers.values()):
+        lot = tuple(sorted({*shown(numbers, scale), name}))
+        if scale >= start and scale > 0 and comings[lot] > scale:
+            return False
+    return True
+
+
+def steady(chart, sides, ranking, comings=None):
+    """The steady BOOK, NAME by NAME and number by number: the numbers by NAME, EVER for never."""
+    comings = comings or all_comings(chart, sides)
+    numbers = {}
+    for name in ranking:
+        # Between two numbers at which something changes nobody comes.
+        starts = [own for own in turns(comings, numbers.values()) if stays(comings, numbers, name, own)]
+        numbers[name] = min(starts, default=EVER)
+    return numbers
+
+
+def book_told(numbers):
+    """Numbers by NAME as a BOOK."""
+    return tuple([pair(numbers[name]) for name in sorted(numbers)])
+
+
+def never_falls(comings, numbers):
+    """Whether, by numbers by NAME, the LOT SHOWN can stand at each SCALE."""
+    return all([comings[shown(numbers, scale)] <= scale for scale in turns(comings, numbers.values()) if scale > 0])
+
+
+def by_axes(chart, sides):
+    """The MAP and the SIDES with both axes exchanged."""
+    turned = tuple([(height, width, down, across) for width, height, across, down in chart])
+    return turned, tuple([tuple([(1, 0, 2)[side] for side in row]) for row in sides])

@@ -11,21 +11,13 @@ from glidenames.fractions import is_fraction
 from glidenames.maps import joined, sized, spread
 from glidenames.sides import ahead, all_beside, bans, by_rule
 from tests import reckoned
-from tests.drawn import BESIDE, ROW, RULE, STILL, TOWN, drawn_lot, drawn_map, drawn_sides
+from tests.drawn import BESIDE, ROW, RULE, STILL, TOWN, drawn_map, drawn_sides, some_maps
 from tests.kit import NO_NUMBERS, NUMBERS, THINGS, Calls, as_lists, mixed, nested, unlike
 from tests.reckoned import all_chains, before, chains_by, pair
 
 POLE = ((2, 5, (0, 0, 9, 0), STILL), (2, 5, (0, 0, 9, 0), STILL))
 WHOLE = (0, (0, 1, 2))
 WRONG = (-1, -3, 10 ** 6, -10 ** 6)
-
-
-def some_maps(seed, many, most=5):
-    """Triples of a MAP, SIDES and a LOT."""
-    picked = random.Random(seed)
-    for _ in range(many):
-        names = picked.randrange(1, most + 1)
-        yield drawn_map(picked, names), drawn_sides(picked, names), drawn_lot(picked, names)
 
 
 class TestIsChain(Calls):

@@ -11,7 +11,10 @@ import unittest
 from glidenames import errors
 
 EXAMPLES = pathlib.Path(__file__).parent / "examples"
-MODULES = ("fractions", "styles", "pages", "maps", "sides", "chains")
+MODULES = (
+    "fractions", "styles", "pages", "maps", "sides", "chains", "stands", "outlines", "room", "books", "ranks",
+    "glides", "slides",
+)
 
 
 def parted(text):

@@ -31,6 +31,54 @@ INTERFACE = {
               "way_of(chart, chain), number_of(chart, chain), longest(chart, sides, lot, axis), "
               "chain_between(chart, sides, lot, axis, one, other), greatest_chain(chart, sides, lot), "
               "through(chart, sides, lot, name)",
+    "stands": "coming(chart, sides, lot), can_stand(chart, sides, lot, scale), "
+              "why_not(chart, sides, lot, scale), is_why_not(chart, sides, lot, scale, thing), "
+              "standing(chart, sides, lot, scale), least_standing(chart, sides, lot, scale), "
+              "greatest_standing(chart, sides, lot, scale), "
+              "is_standing(chart, sides, lot, scale, thing)",
+    "outlines": "outline(chart, sides, lot, name, axis), ceiling(chart, sides, lot, name, axis), "
+                "is_outline(chart, sides, lot, name, axis, thing), "
+                "least_place(chart, sides, lot, name, axis, scale), "
+                "greatest_place(chart, sides, lot, name, axis, scale), "
+                "pusher_at(chart, sides, lot, name, axis, scale), "
+                "pushed_by(chart, sides, lot, axis, scale), "
+                "push_chain(chart, sides, lot, name, axis, scale), "
+                "is_push_chain(chart, sides, lot, name, axis, scale, thing)",
+    "room": "room_at(chart, sides, lot, name, axis, scale), "
+            "room_from(chart, sides, lot, name, axis, room), "
+            "room_reason(chart, sides, lot, name, axis, room), "
+            "is_room_reason(chart, sides, lot, name, axis, room, thing), "
+            "reach(chart, sides, lot, axis, homes, scale), "
+            "reach_cause(chart, sides, lot, axis, homes, scale), "
+            "is_reach_cause(chart, sides, lot, axis, homes, scale, thing), "
+            "reach_range(chart, sides, lot, axis, homes, most), "
+            "nearest_places(chart, sides, lot, axis, homes, scale)",
+    "books": "is_ranking(chart, thing), is_book(chart, thing), book_of(chart, sides, ranking), "
+             "is_steady(chart, sides, ranking, thing), comes_at(chart, sides, ranking, name), "
+             "reason(chart, sides, ranking, name), "
+             "is_reason(chart, sides, ranking, name, thing), shown(book, scale), "
+             "arrivals(book), lots_shown(book), keeps(chart, sides, book), "
+             "fall(chart, sides, book), is_fall(chart, sides, book, thing), "
+             "unlike_at(one, other), is_sooner(ranking, one, other)",
+    "ranks": "by_class(chart, classes), by_size(chart), rank_of(ranking, name), "
+             "raised(ranking, name, rank), exchanged(ranking, rank), "
+             "ranked_first(ranking, lot), by_rank(chart, sides, ranking, name), "
+             "rank_for(chart, sides, ranking, name, scale), freed(chart, sides, ranking, name), "
+             "held_by(chart, sides, ranking, name), order_matters(chart, sides, ranking, rank), "
+             "ranking_for(chart, sides, book), grounded(chart, sides, book), "
+             "is_of(chart, sides, ranking, book)",
+    "glides": "is_glide(chart, sides, book, thing), events(book, first, last), "
+              "fall_of(chart, sides, book, pairs), glide(chart, sides, book, first, last), "
+              "standing_at(book, glide, scale), place_at(book, glide, name, scale), "
+              "slide_of(chart, book, glide), slidest(chart, book, glide), "
+              "stopped(book, glide, scale), straightened(book, glide)",
+    "slides": "least_slide(chart, sides, book, first, last), "
+              "can_slide(chart, sides, book, first, last, slide), "
+              "glide_within(chart, sides, book, first, last, slide), "
+              "ring_above(chart, sides, book, first, last, slide), "
+              "slowest(chart, sides, book, first, last), ring(chart, sides, book, first, last), "
+              "is_ring(chart, sides, book, first, last, thing), "
+              "ratio_of(chart, book, first, last, ring)",
 }
 
 

@@ -7,7 +7,7 @@ import unittest
 
 PACKAGE = pathlib.Path(__file__).parent.parent / "glidenames"
 FILES = sorted(PACKAGE.rglob("*.py"))
-LIBRARY = {"math": ("gcd",)}
+LIBRARY = {"math": ("gcd", "lcm")}
 ALLOWED = """
     len range enumerate zip min max sum abs sorted reversed int str bool bytes list tuple dict set
     isinstance ord repr any all divmod pow iter next map getattr hasattr setattr super
@@ -58,6 +58,12 @@ def defined(file):
         elif isinstance(node, ast.Assign):
             names.extend([target.id for target in node.targets])
     return names
+
+
+def own_methods():
+    """The names of the methods of all classes of the package."""
+    classes = [node for file in FILES for node in ast.walk(tree(file)) if isinstance(node, ast.ClassDef)]
+    return [inner.name for node in classes for inner in node.body if isinstance(inner, ast.FunctionDef)]
 
 
 def inner_names(node):
@@ -131,10 +137,11 @@ class TestLanguage(unittest.TestCase):
                         self.assertEqual([name for name in inner_names(node) if name in NO_NAMES + taken], [])
 
     def test_methods_and_words(self):
+        allowed = METHODS + own_methods()
         for file in FILES:
             for node in ast.walk(tree(file)):
                 with self.subTest(file=file.name, line=getattr(node, "lineno", 0)):
                     if isinstance(node, ast.Call) and isinstance(node.func, ast.Attribute):
-                        self.assertIn(node.func.attr, METHODS)
+                        self.assertIn(node.func.attr, allowed)
                     if isinstance(node, ast.Name):
                         self.assertNotIn(node.id, NO_WORDS)
