@@ -128,7 +128,6 @@ def pusher_at(chart, sides, lot, name, axis, scale):
 
 def pushed_by(chart, sides, lot, axis, scale):
     """The pusher of each NAME of lot at scale."""
-    check_stands(chart, sides, lot, scale)
     return tuple([pusher_at(chart, sides, lot, name, axis, scale) for name in lot])
 
 

@@ -10,7 +10,8 @@ def by_class(chart, classes):
     """The RANKING by classes, the least first."""
     if len(classes) != len(chart):
         raise Unfit()
-    return tuple([name for own, name in sorted([(own, name) for name, own in enumerate(classes)])])
+    pairs = sorted([(own, name) for name, own in enumerate(classes)])
+    return tuple([name for _, name in pairs])
 
 
 def by_size(chart):

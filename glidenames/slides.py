@@ -7,7 +7,7 @@ from glidenames.glides import events, standing_events
 from glidenames.maps import TETHERS
 from glidenames.rings import Course, ratio_by
 from glidenames.sides import stands_before
-from glidenames.values import as_tuples, is_numbers, is_place, is_tuple_of
+from glidenames.values import is_numbers, is_place, is_tuple_of
 
 AXES = (0, 1)
 
@@ -46,7 +46,7 @@ def rings_over(chart, sides, book, first, last, slide):
     scales = standing_events(chart, sides, book, first, last)
     # Each LOT can stand, so a RING without a step asks for nothing: what asks for more has a step.
     found = [course.ring_over(slide) for course in courses_of(chart, sides, book, scales)]
-    return [ring for ring in found if ring is not None]
+    return [own for own in found if own is not None]
 
 
 def can_slide(chart, sides, book, first, last, slide):
@@ -128,4 +128,4 @@ def is_ring(chart, sides, book, first, last, thing):
 
 def ratio_of(chart, book, first, last, ring):
     """The RATIO of ring."""
-    return ratio_by(chart, events(book, first, last), as_tuples(ring))
+    return ratio_by(chart, events(book, first, last), ring)

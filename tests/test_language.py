@@ -30,6 +30,11 @@ METHODS = """
     isupper items join keys ljust lower lstrip partition pop remove replace reverse rfind rjust rpartition
     rsplit rstrip setdefault split splitlines startswith strip update upper values zfill bit_length
 """.split()
+# What is iterated at once, and by which calls; also by the head of a loop or a comprehension.
+AT_ONCE = ("range", "zip", "enumerate", "reversed", "items", "keys", "values")
+GOING_OVER = (
+    "list", "tuple", "dict", "sorted", "sum", "any", "all", "enumerate", "zip", "min", "max", "reversed", "len",
+)
 NO_WORDS = """
     type typing typing_extensions enum Enum IntEnum StrEnum Flag IntFlag Generic Protocol ABC ABCMeta
     namedtuple NamedTuple TypedDict TYPE_CHECKING abstractmethod
@@ -64,6 +69,13 @@ def own_methods():
     """The names of the methods of all classes of the package."""
     classes = [node for file in FILES for node in ast.walk(tree(file)) if isinstance(node, ast.ClassDef)]
     return [inner.name for node in classes for inner in node.body if isinstance(inner, ast.FunctionDef)]
+
+
+def called(node):
+    """The bare name of what is called, None for all that is no call."""
+    if not isinstance(node, ast.Call):
+        return None
+    return node.func.id if isinstance(node.func, ast.Name) else node.func.attr
 
 
 def inner_names(node):
@@ -145,3 +157,12 @@ class TestLanguage(unittest.TestCase):
                         self.assertIn(node.func.attr, allowed)
                     if isinstance(node, ast.Name):
                         self.assertNotIn(node.id, NO_WORDS)
+
+    def test_what_is_iterated_at_once(self):
+        for file in FILES:
+            for node in ast.walk(tree(file)):
+                for inner in ast.iter_child_nodes(node):
+                    if called(inner) in AT_ONCE:
+                        with self.subTest(file=file.name, line=inner.lineno):
+                            heads = isinstance(node, (ast.For, ast.comprehension)) and inner is node.iter
+                            self.assertTrue(heads or called(node) in GOING_OVER)

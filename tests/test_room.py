@@ -187,7 +187,9 @@ class TestReach(Calls):
                 far = plain_reach(*call[:5], scale)
                 self.same(reach(*call), pair(far))
                 right = [own for there, own in every if there == far > 0]
-                self.judged(is_reach_cause, right, [own for _, own in every if own not in right], *call)
+                wrong = [own for _, own in every if own not in right]
+                wrong += [(word, (1 - axis, (name,))) for word in WORDS for name in lot]
+                self.judged(is_reach_cause, right, wrong, *call)
                 if right:
                     self.assertIn(reach_cause(*call), right)
                     words.append(reach_cause(*call)[0])
@@ -259,8 +261,8 @@ class TestReach(Calls):
         # At 2/3 many CAUSES tell it; with a REACH of 0 there is none, though these tell just 0.
         self.judged(is_reach_cause, [own, ("tether", own[1]), ("home", own[1])], [("home", (0, (1,)))], ROW, BESIDE, EVERY, 0, OWN, (2, 3))
         self.judged(is_reach_cause, (), [own, ("homes", (0, (1,))), *no], ROW, BESIDE, EVERY, 0, OWN, (4, 3))
-        # A NAME that is none of the LOT.
-        self.judged(is_reach_cause, [("home", (0, (2,)))], [own, ("home", (0, (1, 2)))], ROW, BESIDE, (0, 2), 0, (OFF[0], OFF[2]), (4, 1))
+        # A NAME that is none of the LOT; and a CHAIN by the other axis.
+        self.judged(is_reach_cause, [("home", (0, (2,)))], [own, ("home", (0, (1, 2))), ("home", (1, (2,)))], ROW, BESIDE, (0, 2), 0, (OFF[0], OFF[2]), (4, 1))
 
     def test_sixteen_names(self):
         picked = random.Random(135)
