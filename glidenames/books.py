@@ -1,12 +1,12 @@
 """Steady books: the one number at which each name comes, by a ranking, and what kept it from coming sooner."""
 
-from glidenames.chains import greatest_chain, is_chain, number_of, through
+from glidenames.chains import ends_through_both, greatest_chain, is_chain, number_of, through
 from glidenames.errors import CanNot
 from glidenames.fractions import ascending, is_fraction
-from glidenames.needs import is_under
-from glidenames.sides import bans, is_ban
+from glidenames.needs import is_under, number_between
+from glidenames.sides import BAN, bans, is_ban, side_between
 from glidenames.stands import bans_of
-from glidenames.values import as_tuples, check_place, is_just, is_number, is_place, is_tuple_of
+from glidenames.values import as_tuples, check_place, is_just, is_number, is_place, is_tuple_of, with_part
 
 AT_ONCE = (0, 1)
 
@@ -41,11 +41,6 @@ def lots_shown(book):
     return [(number, shown(book, number)) for number in (AT_ONCE,) + arrivals(book)]
 
 
-def with_number(book, name, number):
-    """book with name coming at number."""
-    return tuple(book[:name]) + (number,) + tuple(book[name + 1:])
-
-
 def block_of(chart, sides, book, name):
     """What keeps name from coming at 0 where all others that come in book are of higher rank.
 
@@ -78,7 +73,7 @@ def book_first(chart, sides, row):
     """The steady BOOK of a RANKING that begins with row, with None for all others."""
     book = (None,) * len(chart)
     for name in row:
-        book = with_number(book, name, number_after(chart, sides, book, name))
+        book = with_part(book, name, number_after(chart, sides, book, name))
     return book
 
 
@@ -125,6 +120,22 @@ def is_reason(chart, sides, ranking, name, thing):
         return False
     # In this BOOK nobody comes but those of higher rank.
     return all([one == name or is_under(book[one], number) for one in thing[1]])
+
+
+def has_reason_with(chart, sides, ranking, name, other):
+    """Whether name, that does not come at 0, has a REASON with other, unlike it, in it."""
+    book = book_first(chart, sides, higher(ranking, name))
+    number = number_after(chart, sides, book, name)
+    if not is_under(book[other], number):
+        return False
+    if number is None and side_between(sides, name, other) == BAN:
+        return True
+    lot = tuple([one for one in range(len(chart)) if one == name or is_under(book[one], number)])
+    # No CHAIN of this LOT that has name has a greater NUMBER: so longest ones are enough.
+    return any([
+        number_between(chart, *ends) == number
+        for axis in (0, 1) for ends in ends_through_both(chart, sides, lot, axis, name, other)
+    ])
 
 
 def fall_in(chart, sides, book):

@@ -3,7 +3,7 @@
 from glidenames.errors import CanNot
 from glidenames.needs import is_under, need_between, number_between, way_between
 from glidenames.pushing import held_back, pushed_on, pushers_of, sizes_by
-from glidenames.sides import stands_before
+from glidenames.sides import goes_ahead, stands_before
 from glidenames.values import check_place, is_place, is_tuple_of
 
 
@@ -80,6 +80,20 @@ def ends_through(chart, sides, lot, axis, name):
     ahead_of = lengths_to(chart, sides, lot, axis, name)
     behind = lengths_from(chart, sides, lot, axis, name)
     return [(axis, first, last, ahead_of[first] + behind[last]) for first in ahead_of for last in behind]
+
+
+def ends_through_both(chart, sides, lot, axis, one, other):
+    """The same, of the CHAINS that have one and other, unlike it."""
+    first, second = (one, other) if goes_ahead(chart, axis, one, other) else (other, one)
+    between = lengths_from(chart, sides, lot, axis, first)
+    if second not in between:
+        return []
+    ahead_of = lengths_to(chart, sides, lot, axis, first)
+    behind = lengths_from(chart, sides, lot, axis, second)
+    return [
+        (axis, start, stop, ahead_of[start] + between[second] + behind[stop])
+        for start in ahead_of for stop in behind
+    ]
 
 
 def longest(chart, sides, lot, axis):

@@ -127,6 +127,13 @@ def slide_of(chart, book, glide):
     return greatest([(0, 1)] + [slide for slide, _ in slides_told(chart, book, glide)])
 
 
+def is_glide_within(chart, sides, book, first, last, slide, thing):
+    """Whether thing is a GLIDE from first to last whose slide is slide or less."""
+    if not is_glide(chart, sides, book, thing) or thing[0][0] != first or thing[-1][0] != last:
+        return False
+    return not is_less(slide, slide_of(chart, book, thing))
+
+
 def slidest(chart, book, glide):
     """Where glide has its slide first: the number of a pair, a NAME and an axis."""
     most = slide_of(chart, book, glide)

@@ -135,9 +135,14 @@ def box_at(chart, name, place):
     return (tuple(x), tuple(y), plus(x, (width, 1)), plus(y, (height, 1)))
 
 
-def do_cover(chart, name, place, other, there):
-    """Whether the boxes of name, at place, and of other, there, have an inner point in common."""
-    west, north, east, south = box_at(chart, name, place)
-    other_west, other_north, other_east, other_south = box_at(chart, other, there)
+def do_meet(box, other):
+    """Whether two boxes have an inner point in common."""
+    west, north, east, south = box
+    other_west, other_north, other_east, other_south = other
     across = is_less(west, other_east) and is_less(other_west, east)
     return across and is_less(north, other_south) and is_less(other_north, south)
+
+
+def do_cover(chart, name, place, other, there):
+    """Whether the boxes of name, at place, and of other, there, have an inner point in common."""
+    return do_meet(box_at(chart, name, place), box_at(chart, other, there))

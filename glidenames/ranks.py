@@ -1,9 +1,9 @@
 """Ranks: rankings, what the rank of a name matters, and the rankings of which a book is."""
 
-from glidenames.books import AT_ONCE, book_first, book_of, keeps, number_after, unlike_at, with_number
+from glidenames.books import AT_ONCE, book_first, book_of, keeps, number_after, unlike_at
 from glidenames.errors import CanNot, Unfit
 from glidenames.needs import is_under
-from glidenames.values import as_tuples, check_place
+from glidenames.values import as_tuples, check_place, with_part
 
 
 def by_class(chart, classes):
@@ -56,7 +56,7 @@ def by_rank(chart, sides, ranking, name):
     numbers = [AT_ONCE]
     # Lower ones never matter: one rank on, just one more is of higher rank.
     for other in without(ranking, name):
-        book = with_number(book, other, number_after(chart, sides, book, other))
+        book = with_part(book, other, number_after(chart, sides, book, other))
         numbers.append(number_after(chart, sides, book, name))
     return tuple(numbers)
 
@@ -107,7 +107,7 @@ def grounded_row(chart, sides, book):
     while name is not None:
         row.append(name)
         left.remove(name)
-        first = with_number(first, name, book[name])
+        first = with_part(first, name, book[name])
         name = next_in_row(chart, sides, book, first, left)
     return tuple(row)
 

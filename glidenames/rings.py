@@ -27,6 +27,15 @@ def run_of(scales, one, other):
     return minus(scales[max(one[1], other[1])], scales[min(one[1], other[1])])
 
 
+def has_step(ring):
+    """Whether ring has a step."""
+    spots = ring[1]
+    return any([
+        one is not None and other is not None and one[0] == other[0]
+        for one, other in zip(spots, spots[1:] + spots[:1])
+    ])
+
+
 def ratio_by(chart, scales, ring):
     """The RATIO of ring; CanNot() without a step."""
     axis, spots = ring

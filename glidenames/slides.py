@@ -2,10 +2,10 @@
 
 from glidenames.books import shown
 from glidenames.errors import CanNot
-from glidenames.fractions import plus, times
+from glidenames.fractions import is_less, plus, times
 from glidenames.glides import events, standing_events
 from glidenames.maps import TETHERS
-from glidenames.rings import Course, ratio_by
+from glidenames.rings import Course, has_step, ratio_by
 from glidenames.sides import stands_before
 from glidenames.values import is_numbers, is_place, is_tuple_of
 
@@ -129,3 +129,10 @@ def is_ring(chart, sides, book, first, last, thing):
 def ratio_of(chart, book, first, last, ring):
     """The RATIO of ring."""
     return ratio_by(chart, events(book, first, last), ring)
+
+
+def is_ring_above(chart, sides, book, first, last, slide, thing):
+    """Whether thing is a RING whose RATIO is above slide."""
+    if not is_ring(chart, sides, book, first, last, thing) or not has_step(thing):
+        return False
+    return is_less(slide, ratio_of(chart, book, first, last, thing))

@@ -38,11 +38,23 @@ def is_just(thing, value):
     return is_number(thing) and thing == value
 
 
+def is_set_below(thing, many):
+    """Whether thing is a set of numbers from 0, all below many."""
+    if not isinstance(thing, tuple) or not all([is_place(part, many) for part in thing]):
+        return False
+    return all([part < behind for part, behind in zip(thing, thing[1:])])
+
+
 def as_tuples(value):
     """value with a tuple for each list, at any depth."""
     if isinstance(value, (list, tuple)):
         return tuple([as_tuples(part) for part in value])
     return value
+
+
+def with_part(row, place, part):
+    """row, as a tuple, with part at place."""
+    return tuple(row[:place]) + (part,) + tuple(row[place + 1:])
 
 
 def is_place(thing, many):

@@ -117,3 +117,32 @@ def some_loose(seed, many, most=5):
 def drawn_row(picked, many):
     """All of so many NAMES in some order: a RANKING."""
     return tuple(picked.sample(range(many), many))
+
+
+def drawn_change(picked, chart, word):
+    """A CHANGE with this word that a MAP and its RANKING get."""
+    many = len(chart)
+    name = picked.randrange(many)
+    new = drawn_map(picked, 1)[0]
+    row = tuple(picked.choices((0, 0, 1, 1, 2), k=many))
+    return {
+        "tether": ("tether", name, picked.randrange(2), drawn_tether(picked)),
+        "size": ("size", name, picked.randrange(1, 9), picked.randrange(1, 5)),
+        "side": ("side", max(name - 1, 0), max(name, 1), picked.randrange(3)),
+        "rank": ("rank", name, picked.randrange(many)),
+        "less": ("less", name),
+        "more": ("more", picked.randrange(many + 1), new, row, picked.randrange(many + 1)),
+    }[word]
+
+
+def some_changes(seed, many, most=4):
+    """Quadruples of a MAP, SIDES, a RANKING and a CHANGE that they get, its words by turns."""
+    picked = random.Random(seed)
+    words = ("tether", "size", "side", "rank", "less", "more")
+    for at in range(many):
+        names = picked.randrange(2, most + 1)
+        if at % 2:
+            chart, sides = drawn_loose(picked, names)
+        else:
+            chart, sides = drawn_map(picked, names), drawn_sides(picked, names)
+        yield chart, sides, drawn_row(picked, names), drawn_change(picked, chart, words[at % len(words)])

@@ -13,7 +13,7 @@ from glidenames import errors
 EXAMPLES = pathlib.Path(__file__).parent / "examples"
 MODULES = (
     "fractions", "styles", "pages", "maps", "sides", "chains", "stands", "outlines", "room", "books", "ranks",
-    "glides", "slides",
+    "glides", "slides", "changes", "most", "views", "report", "texts", "judge", "desk",
 )
 
 

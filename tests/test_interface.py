@@ -79,6 +79,36 @@ INTERFACE = {
               "slowest(chart, sides, book, first, last), ring(chart, sides, book, first, last), "
               "is_ring(chart, sides, book, first, last, thing), "
               "ratio_of(chart, book, first, last, ring)",
+    "changes": "is_change(thing), changed(chart, sides, ranking, change), "
+               "back_from(chart, sides, ranking, change), all_changed(chart, sides, ranking, changes), "
+               "touched(chart, sides, ranking, change), sooner(chart, sides, ranking, change), "
+               "later(chart, sides, ranking, change), safe_by_rank(chart, sides, ranking, change), "
+               "first_touched(chart, sides, ranking, change), "
+               "cause(chart, sides, ranking, change, name), "
+               "is_cause(chart, sides, ranking, change, name, thing)",
+    "most": "most_at(chart, sides, lot, scale), is_most(chart, sides, lot, scale, thing), "
+            "all_most(chart, sides, lot, scale), cases(chart, sides, lot, scale, many), "
+            "is_cases(chart, sides, lot, scale, many, thing), steps(chart, sides, lot), "
+            "lag(chart, sides, ranking, scale), row_ends(chart, sides, axis, lot, scale), "
+            "row_most(chart, sides, axis, lot, scale), best_sides(chart, lot), "
+            "is_best_sides(chart, lot, thing)",
+    "views": "is_view(thing), window(view, scale), seen(chart, lot, standing, view, scale), "
+             "cut_at(chart, lot, standing, view, scale, name), "
+             "picture(chart, lot, standing, view, scale), "
+             "least_view(chart, lot, standing, scale, p, q), tiles_under(chart, name, place, size), "
+             "by_tiles(chart, lot, standing, size), seen_spans(chart, book, glide, view, name)",
+    "report": "comings(chart, sides, ranking), counts(chart, sides, ranking, classes, scale), "
+              "share(chart, sides, ranking, scale), first_with(chart, sides, ranking, lot, many), "
+              "why(chart, sides, ranking, name), is_why(chart, sides, ranking, name, thing), "
+              "compared(chart, sides, ranking, other), report(chart, sides, ranking, classes)",
+    "texts": "page_told(page), styles_told(styles), map_told(chart), sides_told(sides), "
+             "ranking_told(ranking), book_told(book), glide_told(glide), read_page(text), "
+             "read_styles(text), read_map(text), read_sides(text), read_ranking(text), "
+             "read_book(text), read_glide(text)",
+    "judge": "is_claim(thing), is_so(claim), paper(claim), is_paper_for(claim, thing), "
+             "is_paper_against(claim, thing), verdicts(claims, things), comes_of(claim, claims), "
+             "first_false(claims)",
+    "desk": "desk(text), is_request(thing)",
 }
 
 

@@ -7,7 +7,7 @@ import unittest
 
 PACKAGE = pathlib.Path(__file__).parent.parent / "glidenames"
 FILES = sorted(PACKAGE.rglob("*.py"))
-LIBRARY = {"math": ("gcd", "lcm")}
+LIBRARY = {"math": ("gcd", "lcm"), "itertools": ("combinations",)}
 ALLOWED = """
     len range enumerate zip min max sum abs sorted reversed int str bool bytes list tuple dict set
     isinstance ord repr any all divmod pow iter next map getattr hasattr setattr super
