@@ -74,7 +74,7 @@ class Held:
         self.ranking = ranking
         self.scale = scale
 
-    def book(self):
+    def steady(self):
         """The steady BOOK."""
         return book_of(self.chart, self.sides, self.ranking)
 
@@ -157,12 +157,12 @@ def tell_ranks(held, numbers):
 
 def tell_shown(held, numbers):
     """The answer to "shown"."""
-    return words_for(shown(held.book(), held.scale))
+    return words_for(shown(held.steady(), held.scale))
 
 
 def tell_next(held, numbers):
     """The answer to "next"."""
-    left = [own for own in arrivals(held.book()) if is_less(held.scale, own)]
+    left = [own for own in arrivals(held.steady()) if is_less(held.scale, own)]
     return fraction_word(left[0]) if len(left) > 0 else NOTHING
 
 
@@ -184,7 +184,7 @@ def tell_place(held, numbers):
     """The answer to "place"."""
     name = numbers[0]
     check_place(name, len(held.chart))
-    lot = shown(held.book(), held.scale)
+    lot = shown(held.steady(), held.scale)
     if name not in lot:
         raise CanNot()
     x, y = least_standing(held.chart, held.sides, lot, held.scale)[lot.index(name)]
@@ -194,7 +194,7 @@ def tell_place(held, numbers):
 def tell_slide(held, numbers):
     """The answer to "slide"."""
     last = scale_told(*numbers)
-    return fraction_word(least_slide(held.chart, held.sides, held.book(), held.scale, last))
+    return fraction_word(least_slide(held.chart, held.sides, held.steady(), held.scale, last))
 
 
 # By the word of a deed: what is held behind it. A call that raises an error leaves all as it was.

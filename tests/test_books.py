@@ -15,7 +15,7 @@ from glidenames.sides import all_beside, bans, by_rule, is_ban
 from glidenames.stands import can_stand, coming
 from tests import reckoned
 from tests.drawn import STILL, drawn_map, drawn_row, drawn_sides, some_loose, some_maps
-from tests.kit import NUMBERS, THINGS, Calls, as_lists, mixed, nested, put, unlike
+from tests.kit import THINGS, Calls, as_lists, mixed, nested, put, unlike
 from tests.reckoned import EVER, all_chains, number, numbers_about, pair, worth
 
 FOUR = tuple([(4, 1, (place, 2, place, 2), STILL) for place in (0, 3, 6, 9)])

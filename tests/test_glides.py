@@ -1,7 +1,6 @@
 """Glides [15]: what is one, what it tells between its pairs, and its slide, beside plain standings and straight ways."""
 
 import fractions
-import itertools
 import random
 
 from glidenames.books import arrivals, book_of, keeps, shown

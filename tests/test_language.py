@@ -166,3 +166,14 @@ class TestLanguage(unittest.TestCase):
                         with self.subTest(file=file.name, line=inner.lineno):
                             heads = isinstance(node, (ast.For, ast.comprehension)) and inner is node.iter
                             self.assertTrue(heads or called(node) in GOING_OVER)
+
+    def test_stars_and_what_is_asked_by_is(self):
+        for file in FILES:
+            for node in ast.walk(tree(file)):
+                with self.subTest(file=file.name, line=getattr(node, "lineno", 0)):
+                    self.assertNotIsInstance(node, ast.Lambda)
+                    if isinstance(node, ast.Call):
+                        stars = [inner.value for inner in node.args if isinstance(inner, ast.Starred)]
+                        self.assertTrue(all([isinstance(inner, ast.Name) for inner in stars]))
+                    if isinstance(node, ast.Compare) and isinstance(node.ops[0], (ast.Is, ast.IsNot)):
+                        self.assertIsNone(node.comparators[0].value)

@@ -12,7 +12,6 @@ from glidenames.sides import all_beside, by_rule
 from glidenames.slides import (
     can_slide, glide_within, is_ring, least_slide, ratio_of, ring, ring_above, slowest,
 )
-from tests import reckoned
 from tests.drawn import STILL, drawn_loose, drawn_map, drawn_row, drawn_sides
 from tests.kit import THINGS, Calls, as_lists, mixed, nested, put, unlike
 from tests.reckoned import before, by_axes, pair, worth

@@ -13,7 +13,7 @@ from glidenames.views import (
     by_tiles, cut_at, is_view, least_view, picture, seen, seen_spans, tiles_under, window,
 )
 from tests.drawn import BESIDE, ROW, STILL, some_loose, some_maps
-from tests.kit import THINGS, Calls, as_lists, mixed, nested, put, unlike
+from tests.kit import THINGS, Calls, as_lists, nested, put, unlike
 from tests.reckoned import pair, worth
 from tests.test_glides import drawn_standing, plain_at, some_glides
 
@@ -319,4 +319,3 @@ class TestSeenSpans(Calls):
                 self.assertIn(name, seen(chart, ALL, standing_at(book, way, there), view, there))
         box = box_at(chart, 1, way[0][1][1])
         self.assertEqual(window(view, way[0][0])[3], box[3])
-        self.assertEqual(mixed(box) == box, False)
