@@ -249,9 +249,7 @@ def first_touched(chart, sides, ranking, change):
     """The least number at which a touched NAME comes, before or behind."""
     before, behind = both_zooms(chart, sides, ranking, change)
     numbers = [own.comes(name) for name in touched_names(before, behind) for own in (before, behind)]
-    if len(numbers) == 0:
-        raise CanNot()
-    # Who never comes on one side comes on the other one.
+    # Who never comes on one side comes on the other one: only where none is touched there is no number.
     return least([number for number in numbers if number is not None])
 
 

@@ -94,9 +94,9 @@ def picture(chart, lot, standing, view, scale):
 
 
 def least_size(middle, low, high):
-    """The least number from 1 on of which one half reaches from middle to low and to high."""
+    """The least number of which one half reaches from middle to low and to high."""
     far = greatest((minus(middle, low), minus(high, middle)))
-    return max(1, rounded_up((2 * far[0], far[1])))
+    return rounded_up((2 * far[0], far[1]))
 
 
 def least_view(chart, lot, standing, scale, p, q):
@@ -158,8 +158,9 @@ def span_above(low, high, first, second):
 
 
 def joined_span(spans, span, is_seen):
-    """spans and, behind them, span; as one with the last one if they meet and name is seen there."""
-    if len(spans) > 0 and spans[-1][1] == span[0] and is_seen:
+    """spans and, behind them, span; as one with the last one if name is seen where they meet."""
+    # Nobody jumps: who is seen there has been seen right ahead of it, but for one that has just come.
+    if len(spans) > 0 and is_seen:
         return spans[:-1] + [(spans[-1][0], span[1])]
     return spans + [span]
 

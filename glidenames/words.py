@@ -46,7 +46,7 @@ def fraction_told(word):
     top = number_told(first)
     below = number_told(rest) if parted else 1
     # A below of 1 is not written.
-    if top is None or below is None or (parted and below == 1):
+    if parted and below == 1:
         return None
     return (top, below) if is_fraction((top, below)) else None
 

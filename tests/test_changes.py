@@ -321,6 +321,17 @@ class TestCause(Calls):
             self.judged(is_cause, (), [(name,), (1, name), (), *THINGS], *TOLD, SHORT, name)
             self.refused(CanNot, {}, cause, *TOLD, SHORT, name)
 
+    def test_none_twice_and_all_touched(self):
+        # Before and behind one pushes the other one: back and forth it would go for ever.
+        self.judged(is_cause, [(1,)], [(1, 2, 1), (1, 1), (1, 2)], *TOLD, HIGH, 1)
+        self.judged(is_cause, [(1, 2)], [(1, 2, 1, 2), (2,), (1, 1, 2), (1, 2, 2)], *TOLD, HIGH, 2)
+        # NAME 0 has a REASON with 1 in it, and 2 one with 0; but 0 is not touched.
+        told = (((4, 1, (6, 1, 8, -1), (-3, -2, -3, 2)), (2, 2, (1, -1, 1, 1), (3, 3, 3, 1)), (5, 3, (3, 1, 5, 1), (-1, 1, 1, 3))), BESIDE, (1, 0, 2))
+        self.judged(is_cause, [(2,), (1, 2)], [(1, 0, 2), (0, 2)], *told, ("side", 1, 2, 1), 2)
+        told = (((4, 2, (3, 0, 3, 0), (-1, 3, 4, -3)), (5, 3, (4, -2, 9, 6), (-4, -3, 1, 4)), (1, 3, (3, 1, 5, -1), (-1, -3, 1, 4)), (5, 1, (6, 3, 8, -1), (4, 2, 4, -1))),
+                ((), (0,), (1, 0), (1, 1, 0)), (1, 0, 3, 2))
+        self.judged(is_cause, [(1, 0, 2)], [(1, 3, 2), (1, 2), (3, 2), (2,)], *told, ("tether", 1, 0, (6, 3, 6, -3)), 2)
+
     def test_who_is_none_of_both(self):
         for change, names in ((LESS, (0, 3, -1)), (MORE, (3, 4, -1)), (SHORT, (3, -1)), (("more", 0, NEW, (0, 0, 0), 0), (0, 4)), (("less", 2), (2, 3))):
             for name in names:

@@ -182,6 +182,15 @@ class TestDesk(Calls):
         self.told(["1"], desk, "at")
         self.told(["1", "0 1 2", "0 1 2", "-"], desk, "at\nranks\nshown\nnext")
 
+    def test_the_map_at_first(self):
+        # All that can be asked of it, by each RANKING, at many SCALES, as of any side told anew.
+        questions = "\n".join([f"{word} {name}" for word in ("comes", "why", "place") for name in range(3)] + ["at", "ranks", "shown", "next", "slide 40 1", "slide 1 1", "slide 3 4"])
+        for raises, sides in ((), ()), ((1,), ()), ((2,), ()), ((2, 2), ()), ((1, 2), ()), ((2, 2, 1), ()), ((), ("0 1 1",)), ((2,), ("1 2 1",)), ((1,), ("0 2 2",)):
+            for scale in ("1 9", "1 3", "2 3", "1 1", "7 2", "30 1"):
+                text = "\n".join([f"raise {name}" for name in raises] + [f"side {own}" for own in sides] + ["scale " + scale, questions])
+                plain = Plain()
+                self.same(desk(text), [plain.work(*request) for request in parted(text)])
+
     def test_numbers_of_a_request(self):
         for word, reply in (("0", "0"), ("1", "0"), ("2", "2/3"), ("3", "refused NoPlace"), ("999999", "refused NoPlace")):
             self.told([reply], desk, "comes " + word)

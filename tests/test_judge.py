@@ -52,6 +52,7 @@ NONE = (
     put(COMES, 4, -1), put(COMES, 5, (-1, 3)), put(COMES, 5, (4, 6)), put(COMES, 5, 0), COMES[:5], COMES + (None,), put(STEADY, 3, BOOK), put(STEADY, 4, BOOK[:2]), put(STEADY, 4, ORDER),
     put(STEADY, 4, ((0, 1), (4, 6), (0, 1))), KEEPS + (BOOK,), KEEPS[:3], put(KEEPS, 3, ORDER), put(ALIKE, 4, (0, 1)), put(ALIKE, 3, BOOK), ALIKE[:4], put(SLIDES, 4, TWO), put(SLIDES, 5, ONE),
     put(SLIDES, 4, (0, 1)), put(SLIDES, 4, (9, 1)), put(SLIDES, 6, (-1, 1)), put(SLIDES, 6, None), put(SLIDES, 3, ORDER), SLIDES[:6], SLIDES + (ONE,), ("slides", *KEEPS[1:]), ("keeps", *STEADY[1:]),
+    STEADY + (BOOK,), STEADY + (None,), STEADY[:4], ("steady",), ("steady", ROW), ("steady", ROW, LEFTS), ALIKE + (ORDER,),
     ("", *KEEPS[1:]), ("Keeps", *KEEPS[1:]),
 )
 
@@ -213,6 +214,9 @@ class TestUnfit(Calls):
                 self.refused(Unfit, {}, verdicts, claims, ((),) * len(claims))
             self.refused(Unfit, {}, comes_of, claim, (STANDS,))
             self.refused(Unfit, {}, comes_of, claim, ())
+        for claims in (None, 7, True, "", "stands"):
+            self.refused(Unfit, {}, first_false, claims)
+            self.refused(Unfit, {}, comes_of, STANDS, claims)
         # In first_false all of them are looked at before the first one that is not so.
         self.refused(Unfit, {}, first_false, (WRONG[0], NONE[0]))
 

@@ -320,6 +320,7 @@ class TestFaults(Calls):
             self.good(read_page, ((7, text, 2, (1, 2, 1, 2)),), f"page\narea 7 1 2 1 2 {text}\n")
         for text in ("", " ", "~" * 61, "a\tb", "\u00e9", "a  b", "\x7f"):
             self.bad(read_page, 2, f"page\nspot 7 1 2 {text}\n")
+            self.bad(read_page, 2, f"page\nway 7 0 2 {text}\ncorners 0 0 0 5\n")
         for line in ("spot 0 0 x", "spot 0 0 0", "spot -1 0 0 x", "spot x 0 0 x", "spot", "area 0 0 0 0 x", "area 0 1 0 0 0 x", "area 0 0 1 0 0 x", "area -1 0 0 0 0 x",
                      "way 0 5 4 x", "way 0 -1 4 x", "way -1 0 4 x", "way 0 0 4", "corners 0 0 5 0", "lake 0 0 0 x", "Spot 0 0 0 x", ""):
             self.bad(read_page, 2, f"page\n{line}\n")

@@ -170,6 +170,7 @@ class TestLeastView(Calls):
         self.told((3, 0, 16, 2), least_view, ROW, ALL, STAND, TWO_THIRDS, 3, 0)
         self.told((-7, 10 ** 6, 1, 1), least_view, ROW, (), (), ONE, -7, 10 ** 6)
         self.told((4, 0, 13, 2), least_view, ROW, (2,), STAND[2:], (7, 8), 4, 0)
+        self.told((0, 1, 1, 1), least_view, ((1, 1, STILL, STILL),), (0,), (((-1, 2), (1, 2)),), ONE, 0, 1)
         # Half a number off.
         self.told((0, 0, 5, 3), least_view, ((4, 1, STILL, STILL),), (0,), (((-3, 2), (-3, 2)),), ONE, 0, 0)
         self.told((1, 0, 9, 3), least_view, ((4, 1, STILL, STILL),), (0,), (((1, 1), (1, 2)),), (1, 2), 1, 0)
@@ -201,6 +202,10 @@ class TestTiles(Calls):
         self.told(((0, -1), (0, 0), (1, -1), (1, 0)), tiles_under, ROW, 1, ((7, 2), (-1, 2)), 4)
         self.told(((-1, -1),), tiles_under, ROW, 1, ((-4, 1), (-1, 1)), 10 ** 6)
         self.told(((-1, 0), (0, 0)), tiles_under, ROW, 1, ((-1, 10 ** 12), FLAT), 10 ** 6)
+        # Far out, both ways.
+        far = 10 ** 12
+        self.told(tuple([(own, far) for own in range(-far, 4 - far)]), tiles_under, ROW, 1, ((-far, 1), (far, 1)), 1)
+        self.told(tuple([(own, -far) for own in range(far, far + 4)]), tiles_under, ROW, 1, ((far, 1), (-far, 1)), 1)
 
     def test_errors(self):
         for name in WRONG:
